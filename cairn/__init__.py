@@ -1,0 +1,1 @@
+"""Cairn: a distributed file store that survives lost disks, lost letters and crashes."""

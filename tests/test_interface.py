@@ -1,0 +1,128 @@
+"""The names, arguments and attributes that the interface promises."""
+
+import ast
+import importlib
+import pathlib
+import unittest
+
+import cairn
+from cairn import errors
+from cairn.code import Code
+
+PACKAGE = pathlib.Path(cairn.__file__).parent
+
+ERRORS = (
+    "ZeroElement DuplicatePoint ShapeMismatch Singular NoSolution BadCode BadIndex NotEnough "
+    "UnequalBlocks TooManyErrors Unreadable RecordTooLong DiaryFull NoSuchRecord ShelfFull "
+    "FragmentTooLong AlreadyHeld NotHeld BadConfig BadRepair TooFewDisks BlobLost NoFile"
+).split()
+
+# For each module its functions, and its classes with their methods.
+FUNCTIONS = {
+    "field": """add(a, b); mul(a, b); inv(a); div(a, b); power(a, n); trim(p); degree(p);
+        evaluate(p, x); poly_add(p, q); poly_mul(p, q); poly_divmod(p, q); interpolate(points)""",
+    "matrix": """identity(n); mat_mul(a, b); mat_vec(a, v); rank(a); inverse(a); solve(a, v);
+        vandermonde(xs, width)""",
+    "correct": "correct(code, pieces); damaged(code, pieces)",
+    "pack": "pack(value); unpack(octets)",
+    "seals": """check_octet(octets); seal_half(stamp, data); read_half(half); seal(stamp, data);
+        read_sector(sector); newest_stamp(sectors)""",
+}
+METHODS = {
+    ("code", "Code"): """__init__(self, data, total); row(self, i); word(self, blocks);
+        fragment(self, blocks, i); rebuild(self, pieces); restore(self, pieces, i);
+        consistent(self, pieces); amend(self, i, fragment, j, old, new); chunks(self, octets);
+        merge(self, blocks, size)""",
+    ("diary", "Diary"): """__init__(self, first, count, sectors); entries(self);
+        next_number(self); base(self); enter(self, record); flush(self); synced(self);
+        forget(self, number); free(self); hurt(self)""",
+    ("index", "Index"): """__init__(self, count, sectors); tickets(self); fragment(self, ticket);
+        runs(self, ticket); put(self, ticket, index, octets); rewrite(self, ticket);
+        drop(self, ticket); trim(self, ticket); spoilt(self, place, sector); free(self);
+        hurt(self)""",
+}
+
+
+def heads(text):
+    """The pairs (name, arguments) that a text lists."""
+    found = []
+    for head in text.split(";"):
+        name, _, rest = head.strip().partition("(")
+        found.append((name, rest.rstrip(")")))
+    return found
+
+
+def tree_of(module):
+    return ast.parse((PACKAGE / f"{module}.py").read_text())
+
+
+def defined(body):
+    """The arguments of the functions that are defined directly in a body."""
+    return {node.name: ast.unparse(node.args) for node in body if isinstance(node, ast.FunctionDef)}
+
+
+def class_body(module, name):
+    for node in tree_of(module).body:
+        if isinstance(node, ast.ClassDef) and node.name == name:
+            return node.body
+    return []
+
+
+class InterfaceTest(unittest.TestCase):
+
+    def test_functions_are_defined_where_they_are_listed(self):
+        for module, text in FUNCTIONS.items():
+            found = defined(tree_of(module).body)
+            for name, arguments in heads(text):
+                with self.subTest(module=module, name=name):
+                    self.assertEqual(found.get(name), arguments)
+                    self.assertTrue(callable(getattr(importlib.import_module(f"cairn.{module}"), name)))
+
+    def test_methods_are_defined_in_their_class(self):
+        for (module, owner), text in METHODS.items():
+            found = defined(class_body(module, owner))
+            for name, arguments in heads(text):
+                with self.subTest(module=module, owner=owner, name=name):
+                    self.assertEqual(found.get(name), arguments)
+                    self.assertTrue(hasattr(importlib.import_module(f"cairn.{module}"), owner))
+
+    def test_attributes_of_a_code(self):
+        code = Code(3, 5)
+        self.assertEqual((code.data, code.total), (3, 5))
+
+
+class ErrorsTest(unittest.TestCase):
+
+    def test_the_base_class(self):
+        self.assertEqual(errors.CairnError.__bases__, (ValueError,))
+
+    def test_each_error_derives_from_the_base_class_alone(self):
+        for name in ERRORS:
+            with self.subTest(name=name):
+                self.assertEqual(getattr(errors, name).__bases__, (errors.CairnError,))
+
+    def test_each_error_is_defined_in_the_file(self):
+        found = {node.name for node in tree_of("errors").body if isinstance(node, ast.ClassDef)}
+        self.assertEqual(found, {"CairnError", *ERRORS})
+
+    def test_no_error_is_a_subclass_of_another_one(self):
+        classes = [getattr(errors, name) for name in ERRORS]
+        for one in classes:
+            for other in classes:
+                self.assertEqual(issubclass(one, other), one is other)
+
+    def test_errors_are_created_with_one_string(self):
+        for name in ["CairnError", *ERRORS]:
+            with self.subTest(name=name):
+                self.assertEqual(str(getattr(errors, name)("what is wrong")), "what is wrong")
+
+    def test_no_other_file_defines_an_error(self):
+        for path in PACKAGE.glob("*.py"):
+            if path.name != "errors.py":
+                for node in ast.walk(ast.parse(path.read_text())):
+                    if isinstance(node, ast.ClassDef):
+                        self.assertEqual(node.bases, [], f"{path.name}: {node.name}")
+
+
+if __name__ == "__main__":
+    unittest.main()
