@@ -175,7 +175,6 @@ class PolynomialTest(unittest.TestCase):
             for p in ([], [0], [1, 2]):
                 with self.assertRaises(ZeroElement):
                     poly_divmod(p, q)
-                self.assertEqual((p, q), (list(p), list(q)))
 
     def test_examples(self):
         self.assertEqual(poly_divmod([1, 0, 1], [1, 1]), ([1, 1], []))
