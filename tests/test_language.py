@@ -47,12 +47,15 @@ ATTRIBUTES_THAT_MAY = set("count index title find get join lower upper split str
 
 STATEMENTS = (
     ast.Assign, ast.AugAssign, ast.If, ast.While, ast.For, ast.Return, ast.Break, ast.Continue, ast.Pass,
-    ast.Raise, ast.Assert, ast.Delete, ast.Try, ast.Expr, ast.FunctionDef, ast.ClassDef, ast.ImportFrom,
+    ast.Raise, ast.Assert, ast.Delete, ast.Try, ast.Expr, ast.FunctionDef, ast.ClassDef, ast.ImportFrom, ast.Match,
 )
 UNWANTED = (
     ast.Lambda, ast.Set, ast.SetComp, ast.Starred, ast.NamedExpr, ast.Yield, ast.YieldFrom, ast.Await,
-    ast.Global, ast.Nonlocal, ast.AnnAssign, ast.With, ast.Match, ast.Div, ast.Pow, ast.MatMult,
+    ast.Global, ast.Nonlocal, ast.AnnAssign, ast.With, ast.Div, ast.Pow, ast.MatMult,
 )
+PATTERNS = (ast.MatchValue, ast.MatchSequence, ast.MatchAs, ast.MatchOr)
+# The interface gives one class a method and another one an attribute of this name.
+BOTH = {"command"}
 
 SOURCES = {path: path.read_text() for path in sorted(PACKAGE.glob("*.py"))}
 TREES = {path: ast.parse(text) for path, text in SOURCES.items()}
@@ -85,7 +88,7 @@ def names_assigned(tree):
             found.append((node.id, node))
         elif isinstance(node, ast.arg):
             found.append((node.arg, node))
-        elif isinstance(node, ast.ExceptHandler) and node.name:
+        elif isinstance(node, (ast.ExceptHandler, ast.MatchAs)) and node.name:
             found.append((node.name, node))
     return found
 
@@ -293,7 +296,7 @@ class NamesTest(unittest.TestCase):
         for path, node in nodes(ast.Attribute):
             if not isinstance(node.ctx, ast.Load):
                 assigned.add(node.attr)
-                self.assertNotIn(node.attr, OWN_METHODS, place(path, node))
+                self.assertNotIn(node.attr, OWN_METHODS - BOTH, place(path, node))
                 self.assertNotIn(node.attr, OWN_VALUES - ATTRIBUTES_THAT_MAY, place(path, node))
         for path, node in nodes(ast.Attribute):
             if isinstance(node.ctx, ast.Load):
@@ -302,6 +305,56 @@ class NamesTest(unittest.TestCase):
                     self.assertIn(node.attr, METHODS | OWN_METHODS, place(path, node))
                 else:
                     self.assertIn(node.attr, assigned, place(path, node))
+
+
+    def test_no_attribute_is_a_method_of_its_class(self):
+        """L18."""
+        for path, owner in nodes(ast.ClassDef):
+            own = {method.name for method in methods_of(owner)}
+            for node in ast.walk(owner):
+                if isinstance(node, ast.Attribute) and not isinstance(node.ctx, ast.Load):
+                    self.assertNotIn(node.attr, own, place(path, node))
+
+
+class MatchTest(unittest.TestCase):
+    """L6 Match."""
+
+    def test_patterns(self):
+        for path, node in nodes(ast.pattern):
+            self.assertIsInstance(node, PATTERNS, place(path, node))
+            if isinstance(node, ast.MatchValue):
+                self.assertIsInstance(node.value, ast.Constant, place(path, node))
+                self.assertNotIn("__", node.value.value, place(path, node))
+            elif isinstance(node, ast.MatchOr):
+                for other in node.patterns:
+                    self.assertIsInstance(other, ast.MatchValue, place(path, node))
+            elif isinstance(node, ast.MatchAs):
+                self.assertIsNone(node.pattern, place(path, node))
+
+    def test_captured_names_are_read_in_their_own_case_only(self):
+        for path, function in nodes(ast.FunctionDef):
+            arguments = {argument.arg for argument in function.args.args}
+            cases = [node for node in ast.walk(function) if isinstance(node, ast.match_case)]
+            reads = [node for node in ast.walk(function) if isinstance(node, ast.Name)]
+            names = [self.captured(case) for case in cases]
+            for found in names:
+                self.assertEqual(len(found), len(set(found)), place(path, function))
+                self.assertEqual(set(found) & arguments, set(), place(path, function))
+            within = {node: found for case, found in zip(cases, names) for node in ast.walk(case)}
+            for node in reads:
+                if any(node.id in found for found in names):
+                    self.assertIsInstance(node.ctx, ast.Load, place(path, node))
+                    self.assertIn(node.id, within.get(node, []), place(path, node))
+
+    def test_cases_have_no_guard_and_are_not_nested(self):
+        for path, case in nodes(ast.match_case):
+            self.assertIsNone(case.guard, place(path, case.pattern))
+            for statement in case.body:
+                for node in ast.walk(statement):
+                    self.assertNotIsInstance(node, (ast.Match, ast.Lambda), place(path, case.pattern))
+
+    def captured(self, case):
+        return [node.name for node in ast.walk(case.pattern) if isinstance(node, ast.MatchAs) and node.name]
 
 
 class ExpressionsTest(unittest.TestCase):
@@ -384,7 +437,9 @@ class ExpressionsTest(unittest.TestCase):
         for path, node in nodes(ast.Try):
             self.assertEqual(node.finalbody, [], place(path, node))
             for handler in node.handlers:
-                self.assertIn(handler.type.id, OWN_ERRORS | {"KeyError"}, place(path, node))
+                kinds = handler.type.elts if isinstance(handler.type, ast.Tuple) else [handler.type]
+                for kind in kinds:
+                    self.assertIn(kind.id, OWN_ERRORS | {"KeyError"}, place(path, node))
 
     def test_sets(self):
         """L24: none is stored; the package needs none."""
