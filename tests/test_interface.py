@@ -7,7 +7,14 @@ import unittest
 
 import cairn
 from cairn import errors
+from cairn.ballot import Learner, Proposal, Tally
 from cairn.code import Code
+from cairn.config import Config
+from cairn.keeper import Keeper
+from cairn.names import Names
+from cairn.plain import Plain
+from cairn.shelf import Shelf
+from cairn.tree import Tree
 
 PACKAGE = pathlib.Path(cairn.__file__).parent
 
@@ -25,6 +32,10 @@ FUNCTIONS = {
         vandermonde(xs, width)""",
     "correct": "correct(code, pieces); damaged(code, pieces)",
     "pack": "pack(value); unpack(octets)",
+    "ballot": "majority(count); next_ballot(seen, porter, life); entries(tally, slot)",
+    "extents": """total(extents); part(extents, at, count); placed(extents, at, size, ticket);
+        resized(extents, size); octets_of(extents, blobs); tickets_of(extents)""",
+    "commands": "is_command(value); is_operation(value)",
     "seals": """check_octet(octets); seal_half(stamp, data); read_half(half); seal(stamp, data);
         read_sector(sector); newest_stamp(sectors)""",
 }
@@ -40,6 +51,28 @@ METHODS = {
         runs(self, ticket); put(self, ticket, index, octets); rewrite(self, ticket);
         drop(self, ticket); trim(self, ticket); spoilt(self, place, sector); free(self);
         hurt(self)""",
+    ("shelf", "Shelf"): """__init__(self, me, config, sectors); letter(self, sender, letter);
+        synced(self); tick(self); look(self, place, sector); holds(self); is_safe(self, ticket);
+        waiting(self)""",
+    ("ballot", "Tally"): """__init__(self, records); apply(self, record); promised(self, slot);
+        voted(self, slot); command(self, slot); closed(self, slot); slots(self); records(self)""",
+    ("ballot", "Learner"): """__init__(self, keepers); heard(self, sender, entries);
+        closed(self, slot, command); command(self, slot); reach(self); top(self)""",
+    ("ballot", "Proposal"): """__init__(self, slot, ballot, command, keepers); letters(self);
+        letter(self, sender, letter)""",
+    ("keeper", "Keeper"): """__init__(self, me, config, sectors); letter(self, sender, letter);
+        synced(self); tick(self); tally(self)""",
+    ("tree", "Tree"): """__init__(self); make(self, path, slot); create(self, path, slot);
+        delete(self, path); rename(self, old, new); names(self, path); node(self, path);
+        paths(self); size(self)""",
+    ("plain", "Plain"): """__init__(self); apply(self, slot, client, number, operation);
+        answer_of(self, client, number); last_number(self, client); dump(self)""",
+    ("names", "Names"): """__init__(self); apply(self, slot, command);
+        answer_of(self, client, number); last_number(self, client); state(self, ticket);
+        wanted(self); intended(self); idle(self); dead(self); ticket_of(self, client, number);
+        extents(self, path); dump(self)""",
+    ("config", "Config"): """__init__(self, keepers, shelves, data, spare, sectors);
+        keeper_names(self); shelf_names(self)""",
 }
 
 
@@ -89,6 +122,28 @@ class InterfaceTest(unittest.TestCase):
     def test_attributes_of_a_code(self):
         code = Code(3, 5)
         self.assertEqual((code.data, code.total), (3, 5))
+
+    def test_attributes_of_a_proposal(self):
+        proposal = Proposal(4, (2, 1, 3), ("noop",), ("k0", "k1", "k2"))
+        found = (proposal.slot, proposal.ballot, proposal.command, proposal.phase, proposal.beaten)
+        self.assertEqual(found, (4, (2, 1, 3), ("noop",), "asking", ()))
+
+    def test_attributes_of_a_config(self):
+        config = Config(3, 4, 2, 1, 64)
+        found = (config.keepers, config.shelves, config.data, config.spare, config.sectors)
+        self.assertEqual(found, (3, 4, 2, 1, 64))
+
+    def test_the_arguments_by_their_names(self):
+        """Each constructor of a process and of a machine takes the listed arguments."""
+        config = Config(keepers=3, shelves=4, data=2, spare=1, sectors=64)
+        Shelf(me="s0", config=config, sectors={})
+        Keeper(me="k0", config=config, sectors={})
+        Proposal(slot=1, ballot=(1, 0, 1), command=(), keepers=config.keeper_names())
+        Learner(keepers=config.keeper_names())
+        Tally(records=[])
+        Tree()
+        Plain()
+        Names()
 
 
 class ErrorsTest(unittest.TestCase):
