@@ -5,6 +5,7 @@ LONGEST_PATH = 4
 MOST_CLIENTS = 4
 MOST_OCTETS = 64
 SIGNS = "abcdefghijklmnopqrstuvwxyz0123456789"
+NOOP = ("noop",)
 
 
 def is_command(value):
@@ -23,6 +24,11 @@ def is_command(value):
         case ("forget", ticket):
             return is_from(ticket, 1)
     return False
+
+
+def as_command(value):
+    """What counts as the command of a slot with this value."""
+    return value if is_command(value) else NOOP
 
 
 def is_operation(value):
@@ -50,7 +56,12 @@ def is_blob_write(op):
 
 def is_call(client, number):
     """Whether these are a client and the number of a call."""
-    return is_from(client, 1) and client <= MOST_CLIENTS and is_from(number, 1)
+    return is_client(client) and is_from(number, 1)
+
+
+def is_client(value):
+    """Whether the value is a client."""
+    return is_from(value, 1) and value <= MOST_CLIENTS
 
 
 def is_place(path, at, size):
@@ -79,4 +90,9 @@ def are_octets(value):
     """Whether the value is a tuple of octets that one write may have."""
     if not isinstance(value, tuple) or len(value) > MOST_OCTETS:
         return False
-    return all([is_from(octet, 0) and octet <= 255 for octet in value])
+    return all([is_octet(item) for item in value])
+
+
+def is_octet(value):
+    """Whether the value is an octet."""
+    return is_from(value, 0) and value <= 255

@@ -17,7 +17,7 @@ class Keeper:
     def __init__(self, me, config, sectors):
         self._sectors = config.sectors
         self._diary = Diary(0, config.sectors, sectors)
-        self._known = Tally([read_value(record, 0, OUTERMOST)[0] for _, record in self._diary.entries()])
+        self._known = Tally(records_of(self._diary))
         # The syncs have the numbers 1, 2, 3 and so on, in the order in which they were asked for.
         self._asked = 0
         self._finished = 0
@@ -125,3 +125,8 @@ class Keeper:
         self._diary.forget(first)
         # Only a record behind the others carries the new base when all of them are there.
         return effects + self._diary.enter(pack((NOTHING,)))[1]
+
+
+def records_of(diary):
+    """The records in the diary of a keeper, as tuples."""
+    return [read_value(octets, 0, OUTERMOST)[0] for _, octets in diary.entries()]

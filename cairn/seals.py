@@ -38,6 +38,9 @@ def seal(stamp, data):
 
 def read_sector(sector):
     """The kind of a sector, its stamp and its data."""
+    # Most of a disk is blank, so this is asked first.
+    if sector == BLANK:
+        return "blank", 0, ()
     first_kind, first_stamp, first_data = read_half(sector[:HALF])
     second_kind, second_stamp, second_data = read_half(sector[HALF:])
     if first_kind == "rotten" or second_kind == "rotten":
@@ -49,5 +52,5 @@ def read_sector(sector):
 
 def newest_stamp(sectors):
     """The greatest stamp of any good half, or 0."""
-    halves = [half for sector in sectors for half in (sector[:HALF], sector[HALF:])]
+    halves = [half for sector in sectors if sector != BLANK for half in (sector[:HALF], sector[HALF:])]
     return max([read_half(half)[1] for half in halves], default=0)

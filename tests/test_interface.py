@@ -7,14 +7,21 @@ import unittest
 
 import cairn
 from cairn import errors
+from cairn.audit import Audit
 from cairn.ballot import Learner, Proposal, Tally
+from cairn.care import Care
 from cairn.code import Code
 from cairn.config import Config
 from cairn.keeper import Keeper
 from cairn.names import Names
 from cairn.plain import Plain
+from cairn.porter import Porter
+from cairn.reader import Reader
+from cairn.rounds import Repair, Survey, plan, whole
 from cairn.shelf import Shelf
 from cairn.tree import Tree
+from cairn.world import PEACE, World, run
+from cairn.writer import Writer
 
 PACKAGE = pathlib.Path(cairn.__file__).parent
 
@@ -36,6 +43,11 @@ FUNCTIONS = {
     "extents": """total(extents); part(extents, at, count); placed(extents, at, size, ticket);
         resized(extents, size); octets_of(extents, blobs); tickets_of(extents)""",
     "commands": "is_command(value); is_operation(value)",
+    "blobs": """holder(config, ticket, index); index_on(config, ticket, shelf);
+        fragments(config, octets); whole_blob(config, pieces, size)""",
+    "rounds": "plan(config, wanted, dead, listings); whole(config, wanted, listings)",
+    "history": "check(history, extra); find_order(history); open_calls(history)",
+    "world": "run(config, events)",
     "seals": """check_octet(octets); seal_half(stamp, data); read_half(half); seal(stamp, data);
         read_sector(sector); newest_stamp(sectors)""",
 }
@@ -73,6 +85,25 @@ METHODS = {
         extents(self, path); dump(self)""",
     ("config", "Config"): """__init__(self, keepers, shelves, data, spare, sectors);
         keeper_names(self); shelf_names(self)""",
+    ("writer", "Writer"): """__init__(self, config, ticket, octets); letters(self);
+        kept(self, sender, ticket, index); safe(self); full(self)""",
+    ("reader", "Reader"): """__init__(self, config, extents, sizes); letters(self);
+        piece(self, sender, ticket, index, octets); result(self)""",
+    ("porter", "Porter"): """__init__(self, me, config, life); call(self, client, number, op);
+        letter(self, sender, letter); tick(self); reach(self); known(self, slot); jobs(self)""",
+    ("rounds", "Survey"): """__init__(self, config); letters(self); have(self, sender, tickets);
+        complete(self); listed(self, shelf)""",
+    ("rounds", "Repair"): """__init__(self, config, ticket, size, shelves); letters(self);
+        piece(self, sender, ticket, index, octets); kept(self, sender, ticket, index);
+        done(self)""",
+    ("care", "Care"): """__init__(self, config); tick(self, machine);
+        letter(self, sender, letter); wanted_command(self, machine); phase(self)""",
+    ("audit", "Audit"): """__init__(self, config, keeper_disks, shelf_disks); log(self);
+        certain(self, slot); names(self); blob(self, ticket, size);
+        blob_octets(self, ticket, size); report(self); margin(self); healthy(self);
+        files(self); octets(self, path)""",
+    ("world", "World"): """__init__(self, config); do(self, event); history(self); fault(self);
+        letters(self); running(self, process); bad(self); disk(self, process)""",
 }
 
 
@@ -133,6 +164,17 @@ class InterfaceTest(unittest.TestCase):
         found = (config.keepers, config.shelves, config.data, config.spare, config.sectors)
         self.assertEqual(found, (3, 4, 2, 1, 64))
 
+    def test_attributes_of_writers_and_repairs(self):
+        config = Config(3, 4, 2, 1, 64)
+        self.assertEqual(Writer(config, 9, [1, 2]).ticket, 9)
+        repair = Repair(config, 9, 2, ["s1", "s3"])
+        self.assertEqual((repair.ticket, repair.targets), (9, ("s1", "s3")))
+
+    def test_peace(self):
+        self.assertEqual(PEACE, 160)
+        names = [target.id for node in tree_of("world").body if isinstance(node, ast.Assign) for target in node.targets]
+        self.assertIn("PEACE", names)
+
     def test_the_arguments_by_their_names(self):
         """Each constructor of a process and of a machine takes the listed arguments."""
         config = Config(keepers=3, shelves=4, data=2, spare=1, sectors=64)
@@ -144,6 +186,17 @@ class InterfaceTest(unittest.TestCase):
         Tree()
         Plain()
         Names()
+        Writer(config=config, ticket=1, octets=[1])
+        Reader(config=config, extents=(), sizes={})
+        Survey(config=config)
+        Repair(config=config, ticket=1, size=1, shelves=["s0"])
+        plan(config=config, wanted={}, dead=[], listings={})
+        whole(config=config, wanted={}, listings={})
+        Care(config=config)
+        Porter(me="p0", config=config, life=1)
+        Audit(config=config, keeper_disks={"k0": {}, "k1": {}}, shelf_disks={})
+        World(config=config)
+        run(config=config, events=[])
 
 
 class ErrorsTest(unittest.TestCase):

@@ -54,8 +54,8 @@ UNWANTED = (
     ast.Global, ast.Nonlocal, ast.AnnAssign, ast.With, ast.Div, ast.Pow, ast.MatMult,
 )
 PATTERNS = (ast.MatchValue, ast.MatchSequence, ast.MatchAs, ast.MatchOr)
-# The interface gives one class a method and another one an attribute of this name.
-BOTH = {"command"}
+# The interface gives one class a method and another one an attribute of each of these names.
+BOTH = {"command", "phase"}
 
 SOURCES = {path: path.read_text() for path in sorted(PACKAGE.glob("*.py"))}
 TREES = {path: ast.parse(text) for path, text in SOURCES.items()}
@@ -198,7 +198,7 @@ class ModuleTest(unittest.TestCase):
                 elif isinstance(node, ast.Assign):
                     self.assertEqual(len(node.targets), 1, place(path, node))
                     self.assertIsInstance(node.targets[0], ast.Name, place(path, node))
-                    self.assertIsInstance(ast.literal_eval(node.value), (int, str, tuple), place(path, node))
+                    self.assertIsInstance(ast.literal_eval(node.value), (int, str, tuple, dict), place(path, node))
                 elif isinstance(node, ast.Expr):
                     self.assertIn(node.value, docstrings(), place(path, node))
                 else:
